@@ -1,0 +1,1 @@
+"""Edgeshop: tools lent, worn and made sharp again."""
