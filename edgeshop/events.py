@@ -1,8 +1,8 @@
 """What happened to the tools: histories, and where they leave each tool."""
 
 from edgeshop.errors import BadHistory, NoSuch
-from edgeshop.stocks import HANDS, KINDS, TOOLS, WORKS, hands_at, has_box, is_row, is_time
-from edgeshop.stocks import kept_for, named, need_box, need_named, need_stock, need_time
+from edgeshop.stocks import HANDS, KEEPS, KINDS, TOOLS, WORKS, hands_at, has_box, is_row, is_time
+from edgeshop.stocks import named, need_box, need_named, need_stock, need_time
 
 MOST_EVENTS = 60
 
@@ -29,6 +29,11 @@ LEAVES = {
 }
 
 
+def is_word(thing):
+    """Whether it is one of the words of events."""
+    return type(thing) is str and thing in LEAVES
+
+
 def is_where(stock, word, where):
     """Whether an event of that word can have that WHERE, by its form."""
     if LEAVES[word] == "hand":
@@ -43,7 +48,7 @@ def is_event(stock, thing):
     if not is_row(thing, 4):
         return False
     time, word, tool, where = thing
-    if not is_time(time) or type(word) is not str or word not in LEAVES:
+    if not is_time(time) or not is_word(word):
         return False
     return named(stock[TOOLS], tool) is not None and is_where(stock, word, where)
 
@@ -205,14 +210,21 @@ def lost_ones(stock, history, time=999):
     return tools_in(stock, history, [("lost",)], time)
 
 
+def suits(stock, tool, work, state, size):
+    """Whether a tool SERVES a work while its STATE and SIZE are these."""
+    name, kind, low, high = work
+    if tool[1] != kind or state == ("lost",) or not low <= size <= high:
+        return False
+    keep = named(stock[KEEPS], tool[0])
+    return keep is None or keep[1] == name
+
+
 def serves(stock, history, tool, work, time=999):
     """Whether a tool serves a work at a TIME."""
     found = need_tool(stock, history, tool)
-    _, kind, low, high = need_named(stock[WORKS], work)
+    wanted = need_named(stock[WORKS], work)
     state, size = standing(history, found, need_time(time))
-    if found[1] != kind or state == ("lost",) or not low <= size <= high:
-        return False
-    return kept_for(stock, tool) in (None, work)
+    return suits(stock, found, wanted, state, size)
 
 
 def who_had(stock, history, tool):

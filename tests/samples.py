@@ -63,6 +63,8 @@ def full_stock(more=None):
     )
 
 
+WORDS = ("lend", "pass", "back", "sharp", "find", "stone", "lose")
+
 # Each tool is told once late and once in time; rip goes the whole way.
 HISTORY = (
     (10, "lend", "rip", "zoe"),
@@ -89,6 +91,43 @@ def changed(rows, at, row):
 def with_sort(sort, things, stock=STOCK):
     """The stock with other things of one sort."""
     return changed(stock, sort, things)
+
+
+def some_history(dice):
+    """A few events, mostly such as can stand, told in any order."""
+    rows = {}
+    states = {}
+    for time in range(9):
+        for tool in dice.sample(("rip", "saw", "big"), dice.randrange(3)):
+            state = states.get(tool, "box")
+            words = {"box": ("lend", "stone", "lose"), "hand": ("pass", "back", "stone", "lose"),
+                     "stone": ("sharp",), "lost": ("find",)}[state]
+            word = dice.choice(words) if dice.random() < 0.95 else dice.choice(WORDS)
+            where = {"stone": "", "lose": "", "lend": "ann", "pass": dice.choice(("zoe", "ann", "saw"))}.get(word, "b")
+            states[tool] = {"lend": "hand", "pass": "hand", "stone": "stone", "lose": "lost"}.get(word, "box")
+            rows[time, tool] = (time, word, tool, where)
+    told = list(rows.values())
+    dice.shuffle(told)
+    return tuple(told)
+
+
+def gone_through(history):
+    """All events in one row by TIME, then as told: the number of the first that can't stand, STATEs, SIZEs."""
+    states = {name: ("box", box) for name, _, _, box in TOOLS}
+    sizes = {name: size for name, _, size, _ in TOOLS}
+    leasts = {name: dict(KINDS)[kind] for name, kind, _, _ in TOOLS}
+    for number in sorted(range(len(history)), key=lambda n: (history[n][0], n)):
+        _, word, tool, where = history[number]
+        was = states[tool][0]
+        fits = {"lend": was == "box", "pass": was == "hand" and states[tool][1] != where, "back": was == "hand",
+                "sharp": was == "stone", "find": was == "lost", "lose": was in ("box", "hand"),
+                "stone": was in ("box", "hand") and sizes[tool] > leasts[tool]}
+        if not fits[word]:
+            return number, states, sizes
+        states[tool] = {"lend": ("hand", where), "pass": ("hand", where), "stone": ("stone",),
+                        "lose": ("lost",)}.get(word, ("box", where))
+        sizes[tool] -= word == "sharp"
+    return None, states, sizes
 
 
 def deep(many=5000):

@@ -6,10 +6,8 @@ import unittest
 
 from edgeshop import events
 from edgeshop.errors import BadHistory, BadQuestion, BadStock, NoSuch
-from tests.samples import HISTORY, KINDS, LEAST_STOCK, STOCK, TOOLS
-from tests.samples import changed, deep, odd_things, with_sort
-
-WORDS = ("lend", "pass", "back", "sharp", "find", "stone", "lose")
+from tests.samples import HISTORY, LEAST_STOCK, STOCK, TOOLS, WORDS
+from tests.samples import changed, deep, gone_through, odd_things, some_history, with_sort
 
 # Each question, and what is handed in behind the history, ahead of the TIME.
 NAMED = {
@@ -224,43 +222,6 @@ class Holding(Refusing):
                 self.assertEqual(events.all_states(STOCK, history, time), states)
                 self.assertEqual({tool[0]: events.size_of(STOCK, history, tool[0], time) for tool in TOOLS}, sizes)
         self.assertTrue(100 < broken < 300, broken)
-
-
-def some_history(dice):
-    """A few events, mostly such as can stand, told in any order."""
-    rows = {}
-    states = {}
-    for time in range(9):
-        for tool in dice.sample(("rip", "saw", "big"), dice.randrange(3)):
-            state = states.get(tool, "box")
-            words = {"box": ("lend", "stone", "lose"), "hand": ("pass", "back", "stone", "lose"),
-                     "stone": ("sharp",), "lost": ("find",)}[state]
-            word = dice.choice(words) if dice.random() < 0.95 else dice.choice(WORDS)
-            where = {"stone": "", "lose": "", "lend": "ann", "pass": dice.choice(("zoe", "ann", "saw"))}.get(word, "b")
-            states[tool] = {"lend": "hand", "pass": "hand", "stone": "stone", "lose": "lost"}.get(word, "box")
-            rows[time, tool] = (time, word, tool, where)
-    told = list(rows.values())
-    dice.shuffle(told)
-    return tuple(told)
-
-
-def gone_through(history):
-    """All events in one row by TIME, then as told: the number of the first that can't stand, STATEs, SIZEs."""
-    states = {name: ("box", box) for name, _, _, box in TOOLS}
-    sizes = {name: size for name, _, size, _ in TOOLS}
-    leasts = {name: dict(KINDS)[kind] for name, kind, _, _ in TOOLS}
-    for number in sorted(range(len(history)), key=lambda n: (history[n][0], n)):
-        _, word, tool, where = history[number]
-        was = states[tool][0]
-        fits = {"lend": was == "box", "pass": was == "hand" and states[tool][1] != where, "back": was == "hand",
-                "sharp": was == "stone", "find": was == "lost", "lose": was in ("box", "hand"),
-                "stone": was in ("box", "hand") and sizes[tool] > leasts[tool]}
-        if not fits[word]:
-            return number, states, sizes
-        states[tool] = {"lend": ("hand", where), "pass": ("hand", where), "stone": ("stone",),
-                        "lose": ("lost",)}.get(word, ("box", where))
-        sizes[tool] -= word == "sharp"
-    return None, states, sizes
 
 
 class Asking(unittest.TestCase):

@@ -24,6 +24,24 @@ FUNCTIONS = {
         "at_stone": "stock, history, time=999", "lost_ones": "stock, history, time=999",
         "serves": "stock, history, tool, work, time=999", "who_had": "stock, history, tool",
     },
+    "eventtexts": {"history_text": "stock, history", "read_history": "stock, text"},
+    "picks": {
+        "choice": "stock, history, work, time=999, box=None, hand=None, spare=False",
+        "pick": "stock, history, work, time=999, box=None, hand=None, spare=False",
+        "picks": "stock, history, works, time=999",
+    },
+    "sets": {
+        "pieces_lacking": "stock, history, name, time=999", "is_whole_set": "stock, history, name, time=999",
+        "stand_ins": "stock, history, name, time=999",
+    },
+}
+
+# Each class, by its file and its name, with its methods and their arguments.
+CLASSES = {
+    ("lives", "Life"): {
+        "__init__": "self, stock, history, tool", "spans": "self", "at": "self, time=999", "many": "self, word",
+        "__len__": "self", "__eq__": "self, other", "__str__": "self", "__repr__": "self",
+    },
 }
 
 BUILTINS = {
@@ -41,7 +59,18 @@ class Interface(unittest.TestCase):
             for name, arguments in functions.items():
                 function = getattr(module, name)
                 self.assertEqual(function.__module__, "edgeshop." + file, name)
+                self.assertTrue(inspect.isfunction(function), name)
                 self.assertEqual(str(inspect.signature(function)), "(" + arguments + ")", name)
+
+    def test_each_class_has_its_methods_in_itself(self):
+        for (file, name), methods in CLASSES.items():
+            made = getattr(importlib.import_module("edgeshop." + file), name)
+            self.assertTrue(inspect.isclass(made), name)
+            self.assertEqual(made.__module__, "edgeshop." + file, name)
+            for method, arguments in methods.items():
+                function = vars(made)[method]
+                self.assertTrue(inspect.isfunction(function), method)
+                self.assertEqual(str(inspect.signature(function)), "(" + arguments + ")", method)
 
 
 class Form(unittest.TestCase):
