@@ -1,7 +1,7 @@
 """What happened to the tools: histories, and where they leave each tool."""
 
 from edgeshop.errors import BadHistory, NoSuch
-from edgeshop.stocks import HANDS, KEEPS, KINDS, TOOLS, WORKS, hands_at, has_box, is_row, is_time
+from edgeshop.stocks import HANDS, KEEPS, KINDS, TOOLS, WORKS, hands_at, has_box, is_name, is_row, is_time
 from edgeshop.stocks import named, need_box, need_named, need_stock, need_time
 
 MOST_EVENTS = 60
@@ -34,23 +34,45 @@ def is_word(thing):
     return type(thing) is str and thing in LEAVES
 
 
-def is_where(stock, word, where):
-    """Whether an event of that word can have that WHERE, by its form."""
+def is_where_form(word, where):
+    """Whether an event of that word can have that WHERE, but for a name that isn't there."""
+    if LEAVES[word] in ("hand", "box"):
+        return is_name(where)
+    return type(where) is str and where == ""
+
+
+def is_event_form(thing):
+    """Whether it is an EVENT, but for names that aren't there."""
+    if not is_row(thing, 4):
+        return False
+    time, word, tool, where = thing
+    if not is_time(time) or not is_word(word) or not is_name(tool):
+        return False
+    return is_where_form(word, where)
+
+
+def has_where(stock, word, where):
+    """Whether the WHERE of an event by form is there."""
     if LEAVES[word] == "hand":
         return named(stock[HANDS], where) is not None
-    if LEAVES[word] == "box":
-        return has_box(stock, where)
-    return type(where) is str and where == ""
+    return where == "" or has_box(stock, where)
 
 
 def is_event(stock, thing):
     """Whether it is an EVENT."""
-    if not is_row(thing, 4):
+    if not is_event_form(thing):
         return False
-    time, word, tool, where = thing
-    if not is_time(time) or not is_word(word):
-        return False
-    return named(stock[TOOLS], tool) is not None and is_where(stock, word, where)
+    _, word, tool, where = thing
+    return named(stock[TOOLS], tool) is not None and has_where(stock, word, where)
+
+
+def need_names(stock, event):
+    """The event by form itself; NoSuch of the first name in it that isn't there."""
+    _, word, tool, where = event
+    need_named(stock[TOOLS], tool)
+    if not has_where(stock, word, where):
+        raise NoSuch(where)
+    return event
 
 
 def first_twice(history):

@@ -2,9 +2,7 @@
 
 from edgeshop.errors import BadQuestion
 from edgeshop.events import at_first, events_of, is_word, moved, need_tool
-from edgeshop.stocks import need_time
-
-LAST_TIME = 999
+from edgeshop.stocks import LAST_TIME, need_time
 
 
 def spans_of(tool, events):

@@ -3,7 +3,7 @@
 from edgeshop.errors import BadQuestion, NoneServes
 from edgeshop.events import need_history, standing, suits
 from edgeshop.sets import pieces_of_whole
-from edgeshop.stocks import HANDS, TOOLS, WORKS, need_box, need_named, need_time
+from edgeshop.stocks import HANDS, TOOLS, WORKS, need_box, need_named, need_time, need_works
 
 MOST_WORKS = 8
 
@@ -56,17 +56,10 @@ def pick(stock, history, work, time=999, box=None, hand=None, spare=False):
     return names[0]
 
 
-def need_works(stock, works):
-    """The works of a row of names."""
-    if type(works) is not tuple or len(works) > MOST_WORKS:
-        raise BadQuestion("no tuple of 0 to 8 works")
-    return [need_named(stock[WORKS], name) for name in works]
-
-
 def picks(stock, history, works, time=999):
     """The names of the tools to take for works at one TIME, one behind the other, none twice."""
     need_history(stock, history)
-    wanted = need_works(stock, works)
+    wanted = need_works(stock, works, MOST_WORKS)
     need_time(time)
     found = []
     for work in wanted:

@@ -15,15 +15,23 @@ SORTS = ("kind", "box", "tool", "hand", "set", "gauge", "work", "keep")
 FEWEST = (1, 0, 0, 0, 0, 0, 0, 0)
 MOST = (6, 5, 12, 5, 4, 3, 8, 6)
 
+LAST_TIME = 999
+LAST_SIZE = 99
+
+
+def is_number(thing, last):
+    """Whether it is a number from 0 to the last one."""
+    return type(thing) is int and 0 <= thing <= last
+
 
 def is_time(thing):
     """Whether it is a TIME."""
-    return type(thing) is int and 0 <= thing <= 999
+    return is_number(thing, LAST_TIME)
 
 
 def is_size(thing):
     """Whether it is a SIZE."""
-    return type(thing) is int and 0 <= thing <= 99
+    return is_number(thing, LAST_SIZE)
 
 
 def is_name(thing):
@@ -205,6 +213,20 @@ def need_time(time):
     if not is_time(time):
         raise BadQuestion("no time from 0 to 999")
     return time
+
+
+def need_size(size):
+    """The size itself, a SIZE; else BadQuestion."""
+    if not is_size(size):
+        raise BadQuestion("no size from 0 to 99")
+    return size
+
+
+def need_works(stock, works, most):
+    """The works of a tuple of names, so many at most; else BadQuestion, then NoSuch."""
+    if type(works) is not tuple or len(works) > most:
+        raise BadQuestion("no tuple of so many works")
+    return [need_named(stock[WORKS], name) for name in works]
 
 
 def tool_of(stock, name):

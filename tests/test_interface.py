@@ -34,6 +34,13 @@ FUNCTIONS = {
         "pieces_lacking": "stock, history, name, time=999", "is_whole_set": "stock, history, name, time=999",
         "stand_ins": "stock, history, name, time=999",
     },
+    "plans": {
+        "fewest": "stock, works", "plan_for": "stock, works", "paper_for": "stock, works",
+        "check_paper": "stock, works, paper",
+    },
+    "found": {
+        "can_be": "stock, history, kind, size, time=999", "alike_boxes": "stock, history, time=999",
+    },
 }
 
 # Each class, by its file and its name, with its methods and their arguments.
@@ -42,6 +49,18 @@ CLASSES = {
         "__init__": "self, stock, history, tool", "spans": "self", "at": "self, time=999", "many": "self, word",
         "__len__": "self", "__eq__": "self, other", "__str__": "self", "__repr__": "self",
     },
+    ("found", "Contents"): {
+        "__init__": "self, stock, history, box, time=999", "rows": "self",
+        "__len__": "self", "__eq__": "self, other", "__str__": "self",
+    },
+    ("shop", "Shop"): {
+        "__init__": "self, stock", "do": "self, deed", "tell": "self, event", "take": "self, number",
+        "found": "self, time, kind, size, box", "undo": "self", "stock": "self", "history": "self", "in_time": "self",
+        "many": "self", "life": "self, tool", "pick": "self, work, time=999, box=None, hand=None, spare=False",
+        "state_of": "self, tool, time=999", "size_of": "self, tool, time=999", "lacking": "self, name, time=999",
+        "copy": "self", "__len__": "self", "__eq__": "self, other", "__str__": "self",
+    },
+    ("desk", "Desk"): {"__init__": "self, text", "say": "self, line"},
 }
 
 BUILTINS = {
